@@ -5,13 +5,16 @@ def place_in(word, other):
     """Return the first positions in other at which the letters of word are found, or None."""
     positions = []
     at = 0
+    # The last position for a letter is the one that leaves enough of them for the rest of word.
+    last = len(other) - len(word)
     for letter in word:
-        while at < len(other) and other[at] < letter:
+        while at <= last and other[at] < letter:
             at += 1
-        if at == len(other):
+        if at > last:
             return None
         positions.append(at)
         at += 1
+        last += 1
     return tuple(positions)
 
 
@@ -22,4 +25,7 @@ def is_within(word, other):
 
 def are_within(words, others):
     """Return whether each word is within the one at the same place in others."""
-    return all([is_within(word, other) for word, other in zip(words, others)])
+    for word, other in zip(words, others):
+        if not is_within(word, other):
+            return False
+    return True

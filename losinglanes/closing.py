@@ -62,7 +62,10 @@ def has_long_word(lots):
 
 
 def layers(program, situation, tries):
-    """Yield the layers of the situation in turn, the closed list last, or raise LimitExceeded."""
+    """Yield the layers of the situation in turn, the closed list last, or raise LimitExceeded.
+
+    Each one is a pair: all its lots, and those of them that the layer before lacks.
+    """
     lots = ()
     new = least_of(situation)
     taken = 0
@@ -72,14 +75,14 @@ def layers(program, situation, tries):
         if taken > tries or has_long_word(new):
             raise LimitExceeded(tries)
         lots = joined(lots, new)
-        yield lots
+        yield lots, new
         new = new_behind(program, lots, new)
 
 
 def layer(program, situation, k, *, tries=400):
     """Return the layer k of the situation, or raise LimitExceeded."""
     found = ()
-    for index, lots in enumerate(layers(program, situation, tries)):
+    for index, (lots, _) in enumerate(layers(program, situation, tries)):
         found = lots
         if index == k:
             break
@@ -90,6 +93,6 @@ def layer(program, situation, k, *, tries=400):
 def closed_list(program, situation, *, tries=400):
     """Return the closed list of the situation, or raise LimitExceeded."""
     found = ()
-    for lots in layers(program, situation, tries):
+    for lots, _ in layers(program, situation, tries):
         found = lots
     return found

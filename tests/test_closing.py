@@ -4,7 +4,8 @@ from calls import Calls
 from losinglanes import closing
 from losinglanes.closing import closed_list, is_closed, layer, least_of
 from losinglanes.errors import LimitExceeded
-from trials import lies_above, lies_in, seeded, some_program, some_situation
+from plain import plain_layers, plain_least
+from trials import lies_in, seeded, some_program, some_situation
 
 EXAMPLE = (1, 2, ((1, ((0, ("send", 0, 0), 0),)), (2, ((0, ("take", 0, 0), 1),))))
 BAD = (((0, 1), ((),)),)
@@ -21,41 +22,6 @@ SENDER = (3, 1, ((2, ((0, ("send", 0, 0), 0), (0, ("send", 1, 0), 0), (0, ("send
 def sent(one, two=0, three=0):
     """A lot of SENDER: back from it lead (one + 1) * (two + 1) * (three + 1) lots, itself too."""
     return (0,), ((0,) * one, (0,) * two, (0,) * three)
-
-
-def plain_least(lots):
-    """The same as least_of, as the document words it."""
-    return tuple(sorted({lot for lot in lots if not any(
-        lies_above(lot, other) and lot != other for other in lots)}))
-
-
-def plain_back(program, lot):
-    """The same as all_back, as the document words it."""
-    found = set()
-    for machine, (_, steps) in enumerate(program[2]):
-        for start, action, end in steps:
-            places, words = list(lot[0]), list(lot[1])
-            if places[machine] != end or action[0] == "test" and words[action[1]]:
-                continue
-            places[machine] = start
-            if action[0] == "take":
-                words[action[1]] = (action[2],) + words[action[1]]
-            if action[0] == "send" and words[action[1]] and words[action[1]][-1] <= action[2]:
-                words[action[1]] = words[action[1]][:-1]
-            found.add((tuple(places), tuple(words)))
-    return found
-
-
-def plain_layers(program, situation, most=60):
-    """The layers up to the closed list, and how many lots are taken in up to each of them."""
-    layers, taken = [plain_least(situation)], [set(plain_least(situation))]
-    while len(taken[-1]) <= most and (len(layers) < 2 or layers[-1] != layers[-2]):
-        found = set(layers[-1])
-        for lot in layers[-1]:
-            found |= plain_back(program, lot)
-        layers.append(plain_least(found))
-        taken.append(taken[-1] | set(layers[-1]))
-    return layers, [len(lots) for lots in taken]
 
 
 class LeastOf(Calls):

@@ -8,29 +8,8 @@ from losinglanes.closing import closed_list, is_closed, layer
 from losinglanes.runs import is_in, leads_into, lots_of
 from losinglanes.steps import can_do, done, is_above, steps_of
 from trials import (
-    after_step, all_lots, all_words, can_become, entries_of, lies_above, lies_in, lots_that_lead, seeded,
-    some_program, some_situation, words_left)
-
-EXAMPLE = (1, 2, ((1, ((0, ("send", 0, 0), 0),)), (2, ((0, ("take", 0, 0), 1),))))
-
-# Each kind of step, from a place to another one and to the same one, by one machine and by two.
-MIXED = (1, 2, ((2, (
-    (0, ("rest",), 1), (0, ("send", 0, 0), 1), (0, ("send", 0, 1), 0), (0, ("take", 0, 1), 1),
-    (1, ("rest",), 1), (1, ("send", 0, 1), 0), (1, ("take", 0, 0), 1), (1, ("test", 0), 0))),))
-TWO = (2, 1, (
-    (2, ((0, ("send", 0, 0), 1), (0, ("test", 1), 0), (1, ("take", 1, 0), 0))),
-    (2, ((0, ("take", 0, 0), 1), (1, ("send", 1, 0), 0), (1, ("test", 0), 1)))))
-# A letter arrives that is smaller than each one that was sent.
-THREE = (1, 3, ((2, (
-    (0, ("send", 0, 2), 1), (0, ("take", 0, 1), 1), (1, ("send", 0, 1), 0), (1, ("take", 0, 0), 0),
-    (1, ("test", 0), 1))),))
-
-# (program, most letters of a word, lots that are tried as those that are led to)
-PROGRAMS = [(EXAMPLE, 3), (MIXED, 3), (TWO, 2), (THREE, 2)]
-for seed in range(48):
-    random = seeded(seed)
-    lanes, letters, longest = ((1, 2, 3), (1, 3, 2), (2, 1, 3), (1, 2, 3), (1, 1, 3), (2, 2, 2))[seed % 6]
-    PROGRAMS.append((some_program(random, lanes, letters, 1 + seed % 2, 2, 6), longest))
+    PROGRAMS, after_step, all_lots, all_words, can_become, entries_of, lies_above, lies_in, lots_that_lead,
+    seeded, some_situation, words_left)
 
 
 class Trials(Calls):

@@ -85,6 +85,29 @@ def lots_that_lead(program, situation, most, longest):
     return rows
 
 
+def lots_led_to(program, lot, most, longest):
+    """For k from 0 to most the lots that exactly k entries lead to, words cut to longest letters.
+
+    What a longer word leads to is left out: so these are all lots only if no word gets that long.
+    """
+    rows = [{lot}]
+    for _ in range(most):
+        rows.append({after for before in rows[-1] for _, after in entries_of(program, before)
+                     if max(map(len, after[1])) <= longest})
+    return rows
+
+
+def all_led_to(program, lot, longest):
+    """All lots that runs lead to, words cut to longest letters; so there may be more."""
+    found, behind = {lot}, [lot]
+    while behind:
+        for _, after in entries_of(program, behind.pop()):
+            if after not in found and max(map(len, after[1])) <= longest:
+                found.add(after)
+                behind.append(after)
+    return found
+
+
 def some_action(random, lanes, letters):
     name = random.choice(("send", "take", "send", "take", "test", "rest"))
     if name == "rest":
@@ -105,18 +128,42 @@ def some_program(random, lanes, letters, machines, places, steps):
     return lanes, letters, tuple(rows)
 
 
+def some_lot(random, program, longest):
+    """A lot with words of at most so many letters."""
+    lanes, letters, machines = program
+    places = tuple(random.randrange(machine[0]) for machine in machines)
+    words = tuple(tuple(random.randrange(letters) for _ in range(random.randint(0, longest)))
+                  for _ in range(lanes))
+    return places, words
+
+
 def some_situation(random, program, lots, longest):
     """A set of at most so many lots with words of at most so many letters."""
-    lanes, letters, machines = program
-    found = set()
-    for _ in range(random.randint(1, lots)):
-        places = tuple(random.randrange(machine[0]) for machine in machines)
-        words = tuple(tuple(random.randrange(letters) for _ in range(random.randint(0, longest)))
-                      for _ in range(lanes))
-        found.add((places, words))
-    return tuple(sorted(found))
+    many = random.randint(1, lots)
+    return tuple(sorted({some_lot(random, program, longest) for _ in range(many)}))
 
 
 def seeded(seed):
     """The same choices in each run of the tests."""
     return Random(seed)
+
+
+EXAMPLE = (1, 2, ((1, ((0, ("send", 0, 0), 0),)), (2, ((0, ("take", 0, 0), 1),))))
+
+# Each kind of step, from a place to another one and to the same one, by one machine and by two.
+MIXED = (1, 2, ((2, (
+    (0, ("rest",), 1), (0, ("send", 0, 0), 1), (0, ("send", 0, 1), 0), (0, ("take", 0, 1), 1),
+    (1, ("rest",), 1), (1, ("send", 0, 1), 0), (1, ("take", 0, 0), 1), (1, ("test", 0), 0))),))
+TWO = (2, 1, (
+    (2, ((0, ("send", 0, 0), 1), (0, ("test", 1), 0), (1, ("take", 1, 0), 0))),
+    (2, ((0, ("take", 0, 0), 1), (1, ("send", 1, 0), 0), (1, ("test", 0), 1)))))
+# A letter arrives that is smaller than each one that was sent.
+THREE = (1, 3, ((2, (
+    (0, ("send", 0, 2), 1), (0, ("take", 0, 1), 1), (1, ("send", 0, 1), 0), (1, ("take", 0, 0), 0),
+    (1, ("test", 0), 1))),))
+
+# (program, most letters of a word, lots that are tried as those that are led to)
+PROGRAMS = [(EXAMPLE, 3), (MIXED, 3), (TWO, 2), (THREE, 2)]
+for seed in range(48):
+    lanes, letters, longest = ((1, 2, 3), (1, 3, 2), (2, 1, 3), (1, 2, 3), (1, 1, 3), (2, 2, 2))[seed % 6]
+    PROGRAMS.append((some_program(seeded(seed), lanes, letters, 1 + seed % 2, 2, 6), longest))

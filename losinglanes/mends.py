@@ -42,6 +42,15 @@ def require_options(program, value):
     return value
 
 
+def are_options(program, value):
+    """Return whether value is a tuple of options for the program."""
+    try:
+        require_options(program, value)
+    except InvalidOptions:
+        return False
+    return True
+
+
 def with_choice(program, options, choice):
     """Return the program with the steps that the choice's options add, without those they remove."""
     lanes, letters, machines = program
@@ -76,6 +85,12 @@ def all_choices(program, options):
         rows = rows + [row + (at,) for row in rows]
     found = [(cost_of(options, row), row) for row in rows if is_choice(program, options, row)]
     return [row for _, row in sorted(found)]
+
+
+def choices_up_to(program, options, most):
+    """Return the list of all choices, in their order, that cost at most so much; all for None."""
+    found = all_choices(program, options)
+    return [choice for choice in found if most is None or cost_of(options, choice) <= most]
 
 
 def choices(program, options):

@@ -67,6 +67,15 @@ def require_program(value):
     return value
 
 
+def is_program(value):
+    """Return whether value is a program."""
+    try:
+        require_program(value)
+    except InvalidProgram:
+        return False
+    return True
+
+
 def first_lot(program):
     """Return the lot with all machines in place 0 and all words empty."""
     lanes, _, machines = program
@@ -116,3 +125,12 @@ def require_situation(program, value):
         if index > 0 and not value[index - 1] < lot:
             raise InvalidSituation(index)
     return value
+
+
+def is_situation(program, value):
+    """Return whether value is a situation of the program."""
+    try:
+        require_situation(program, value)
+    except InvalidSituation:
+        return False
+    return True

@@ -9,21 +9,24 @@ def plain_least(lots):
         lies_above(lot, other) and lot != other for other in lots)}))
 
 
+def plain_step_back(lot, machine, step):
+    """The same as back, for a step as it stands, as the document words it."""
+    start, action, end = step
+    places, words = list(lot[0]), list(lot[1])
+    if places[machine] != end or action[0] == "test" and words[action[1]]:
+        return None
+    places[machine] = start
+    if action[0] == "take":
+        words[action[1]] = (action[2],) + words[action[1]]
+    if action[0] == "send" and words[action[1]] and words[action[1]][-1] <= action[2]:
+        words[action[1]] = words[action[1]][:-1]
+    return tuple(places), tuple(words)
+
+
 def plain_back(program, lot):
     """The same as all_back, as the document words it."""
-    found = set()
-    for machine, (_, steps) in enumerate(program[2]):
-        for start, action, end in steps:
-            places, words = list(lot[0]), list(lot[1])
-            if places[machine] != end or action[0] == "test" and words[action[1]]:
-                continue
-            places[machine] = start
-            if action[0] == "take":
-                words[action[1]] = (action[2],) + words[action[1]]
-            if action[0] == "send" and words[action[1]] and words[action[1]][-1] <= action[2]:
-                words[action[1]] = words[action[1]][:-1]
-            found.add((tuple(places), tuple(words)))
-    return found
+    found = {plain_step_back(lot, machine, step) for machine, (_, steps) in enumerate(program[2]) for step in steps}
+    return found - {None}
 
 
 def plain_layers(program, situation, most=60):

@@ -1,19 +1,16 @@
 """Reaching, idle steps and mends against all runs with all losses, tried one by one."""
 
 import unittest
-from itertools import combinations
 
 from calls import Calls
+from claiming import some_options, some_wishes
 from losinglanes.idle import idle_steps, is_idle
 from losinglanes.mends import cheapest_mend, keeps
 from losinglanes.reaching import can_come, distance, shortest_run
+from plain_checker import all_choices_of, changed_by, start_of
 from trials import (
     PROGRAMS, after_step, all_led_to, all_lots, can_become, entries_of, lies_above, lies_in, lots_led_to, lots_that_lead,
-    seeded, some_action, some_lot, some_situation)
-
-
-def start_of(program):
-    return (0,) * len(program[2]), ((),) * program[0]
+    seeded, some_lot, some_situation)
 
 
 def plainly_leads(program, lot, run, situation):
@@ -112,44 +109,13 @@ class Mends(Calls):
         for at, (program, _) in enumerate(PROGRAMS):
             for turn in range(4):
                 random = seeded(at * 10 + turn + 500)
-                options = self.some_options(random, program)
-                wishes = tuple((random.choice(("never", "can")), some_situation(random, program, 2, 1))
-                               for _ in range(random.randint(1, 3)))
+                options, wishes = some_options(random, program, 3), some_wishes(random, program)
                 told.append(self.check(program, wishes, options))
         self.assertTrue({None, (), (0,), (1,), (2,), (0, 1), (0, 2), (1, 2)} <= set(told))
 
-    def some_options(self, random, program):
-        options = []
-        while len(options) < 3:
-            machine = random.randrange(len(program[2]))
-            places, steps = program[2][machine]
-            step = (random.randrange(places), some_action(random, program[0], program[1]), random.randrange(places))
-            if step not in steps and len(steps) < 8 and random.random() < 0.5:
-                options.append(("put", machine, step, random.randrange(4)))
-            elif random.random() < 0.5:
-                options.append(("drop", machine, random.choice(steps), random.randrange(4)))
-        return tuple(options)
-
-    def changed(self, program, options, choice):
-        """The changed program, or None where the choice is none."""
-        rows = [set(steps) for _, steps in program[2]]
-        if len({options[at][1:3] for at in choice}) < len(choice):
-            return None
-        for at in choice:
-            word, machine, step, _ = options[at]
-            rows[machine] ^= {step}
-        if max(map(len, rows)) > 8:
-            return None
-        return program[0], program[1], tuple((machine[0], tuple(sorted(row)))
-                                             for machine, row in zip(program[2], rows))
-
     def check(self, program, wishes, options):
-        mends = []
-        for many in range(len(options) + 1):
-            for choice in combinations(range(len(options)), many):
-                changed = self.changed(program, options, choice)
-                if changed is not None and all(self.is_kept(changed, wish) for wish in wishes):
-                    mends.append((sum(options[at][3] for at in choice), choice))
+        mends = [(cost, choice) for cost, choice in all_choices_of(program, options)
+                 if all(self.is_kept(changed_by(program, options, choice), wish) for wish in wishes)]
         best = min(mends)[1] if mends else None
         self.told(cheapest_mend(program, wishes, options), best)
         return best
